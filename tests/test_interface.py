@@ -1,0 +1,45 @@
+"""The names, arguments and files of the interface, of what has landed."""
+
+import ast
+import os
+import unittest
+
+import beltshift
+
+FOLDER = os.path.dirname(os.path.abspath(beltshift.__file__))
+FUNCTIONS = {
+    "words": ["is_name(text)", "number_of(text)"],
+    "rules": ["is_rule(thing)", "needs(rule)", "made_by(rule, things)"],
+    "rooms": ["look_room(room)", "comings(room, hand)", "goings(room, hand)", "doors_in(room)", "doors_out(room)"],
+}
+CLASSES = {
+    ("errors", "NoText"): ["__init__(self, row)"],
+    ("errors", "NoRoom"): ["__init__(self, word, at)"],
+    ("errors", "NoFormula"): ["__init__(self, word, name)"],
+    ("errors", "NoShift"): ["__init__(self, word, at)"],
+    ("errors", "NotReady"): ["__init__(self, hand)"],
+    ("errors", "NoName"): ["__init__(self, name)"],
+    ("errors", "NoRow"): [],
+    ("errors", "BeltError"): [],
+}
+
+
+def body(module):
+    with open(os.path.join(FOLDER, module + ".py"), encoding="utf-8") as file:
+        return ast.parse(file.read()).body
+
+
+def heads(rows):
+    return [f"{row.name}({ast.unparse(row.args)})" for row in rows if isinstance(row, ast.FunctionDef)]
+
+
+class Interface(unittest.TestCase):
+    def test_functions(self):
+        for module, functions in FUNCTIONS.items():
+            self.assertEqual(set(functions) - set(heads(body(module))), set(), module)
+
+    def test_classes(self):
+        for (module, word), methods in CLASSES.items():
+            found = [row for row in body(module) if isinstance(row, ast.ClassDef) and row.name == word]
+            self.assertEqual(len(found), 1, word)
+            self.assertEqual(set(methods) - set(heads(found[0].body)), set(), word)
