@@ -11,8 +11,14 @@ FUNCTIONS = {
     "words": ["is_name(text)", "number_of(text)"],
     "rules": ["is_rule(thing)", "needs(rule)", "made_by(rule, things)"],
     "rooms": ["look_room(room)", "comings(room, hand)", "goings(room, hand)", "doors_in(room)", "doors_out(room)"],
+    "order": ["work_order(room)"],
+    "roomtexts": ["show_room(room)", "read_room(text)"],
+    "runs": ["run(room, rows)", "worked(room, rows)", "standing(room, rows)"],
+    "formulas": ["look_formulas(formulas)"],
+    "formulatexts": ["read_formulas(text)"],
 }
 CLASSES = {
+    ("runs", "Run"): ["__init__(self, room)", "bell(self, things)", "bells(self)", "room(self)"],
     ("errors", "NoText"): ["__init__(self, row)"],
     ("errors", "NoRoom"): ["__init__(self, word, at)"],
     ("errors", "NoFormula"): ["__init__(self, word, name)"],
