@@ -2,6 +2,7 @@
 
 from beltshift.errors import NoFormula
 from beltshift.rings import first_on_ring
+from beltshift.trees import leanings
 
 
 def look_formulas(formulas):
@@ -51,17 +52,3 @@ def rule_on_ring(rules):
     for rule, tree in rules:
         steps[rule].extend([name for name, ago in leanings(tree) if ago == 0 and name in steps])
     return first_on_ring(list(steps), steps)
-
-
-def leanings(tree):
-    """A list of (name, bells ago), from left to right, on which a tree leans."""
-    found = []
-    left = [tree]
-    while left:
-        part = left.pop()
-        if part[0] == "name":
-            found.append((part[1], part[2]))
-        else:
-            # The last one first, since the one that is put there last is taken next.
-            left.extend([branch for branch in part[:0:-1] if isinstance(branch, tuple)])
-    return found

@@ -1,8 +1,9 @@
-"""Rooms for the tests, written out and drawn with a fixed seed, and questions that several tests ask."""
+"""Rooms, formulas and shifts for the tests, written out and drawn with a fixed seed, and what several tests ask."""
 
 import random
 
-from beltshift.errors import NoRoom
+from beltshift.errors import NoFormula, NoRoom
+from beltshift.formulas import look_formulas
 from beltshift.rooms import look_room
 from beltshift.rules import needs
 
@@ -86,3 +87,64 @@ def drawn_rows(room, many, seed):
     draw = random.Random(seed)
     doors = [number for number, (rule, moments) in enumerate(room[0]) if rule == ("in",)]
     return [tuple(draw.randrange(-99, 100) for door in doors) for bell in range(many)]
+
+
+def drawn_formulas(many, seed):
+    """So many formulas that are let by."""
+    draw = random.Random(seed)
+    told = []
+    while len(told) < many:
+        formulas = formulas_by_chance(draw)
+        try:
+            look_formulas(formulas)
+        except NoFormula:
+            continue
+        told.append(formulas)
+    return told
+
+
+def formulas_by_chance(draw):
+    """Formulas; perhaps with a ring that is refused."""
+    names = draw.sample(["a", "b", "c", "d", "e", "f", "g", "sum", "name"], 9)
+    ins = tuple(names[: draw.randrange(0, 5)])
+    rules = names[len(ins):][: draw.randrange(0, 6)]
+    known = list(ins) + rules
+    draw.shuffle(known)
+    was = [(name, tuple(drawn_things(draw, draw.randrange(0, 8)))) for name in known if draw.randrange(2)]
+    trees = [(name, tree_by_chance(draw, known, draw.randrange(1, 11))) for name in rules]
+    outs = [draw.choice(known) for out in range(draw.randrange(0, 5) if known else 0)]
+    return (ins, tuple(was), tuple(trees), tuple(outs))
+
+
+def drawn_things(draw, many):
+    return [draw.randrange(-9, 10) for thing in range(many)]
+
+
+def tree_by_chance(draw, names, parts):
+    """A tree of at most so many parts."""
+    words = ["name", "name", "name", "number"]
+    for word, least in [("times", 2), ("sum", 3), ("gap", 3), ("below", 3), ("most", 3), ("least", 3), ("pick", 4)]:
+        words += [word] * (3 if parts >= least else 0)
+    word = draw.choice(words)
+    if word == "name":
+        return ("name", draw.choice(names), draw.choice([0, 0, 0, 1, 1, 2, 3, 6]))
+    if word == "number":
+        return ("number", draw.randrange(-20, 21))
+    if word == "times":
+        return ("times", draw.randrange(-9, 10), tree_by_chance(draw, names, parts - 1))
+    branches = 3 if word == "pick" else 2
+    return (word, *[tree_by_chance(draw, names, (parts - 1) // branches) for branch in range(branches)])
+
+
+def drawn_shifts(room, late, seed):
+    """Shifts that are let by, from none on by one hand after the other."""
+    draw = random.Random(seed)
+    shifts = [late if rule == ("out",) else 0 for rule, moments in room[0]]
+    free = [number for number, (rule, moments) in enumerate(room[0]) if rule not in (("in",), ("out",))]
+    for turn in range(40 if free else 0):
+        number = draw.choice(free)
+        changed = list(shifts)
+        changed[number] += draw.choice([-3, -2, -1, -1, 1, 1, 2])
+        if all(len(things) + changed[taker] - changed[giver] >= 0 for giver, taker, things in room[1]):
+            shifts = changed
+    return tuple(shifts)

@@ -16,6 +16,14 @@ FUNCTIONS = {
     "runs": ["run(room, rows)", "worked(room, rows)", "standing(room, rows)"],
     "formulas": ["look_formulas(formulas)"],
     "formulatexts": ["read_formulas(text)"],
+    "saying": ["said(formulas, rows)"],
+    "maker": ["made_room(formulas, moments)"],
+    "ways": [
+        "trays_on(room, way)", "moments_on(room, way)", "way_end(room, pair)", "time_of(room)", "long_way(room)",
+        "least_between(room, one, other)", "way_between(room, one, other)",
+    ],
+    "shifts": ["look_shifts(room, late, shifts)", "waits(shifts)", "trays_moved(room, shifts)"],
+    "moving": ["moved(room, late, shifts, rows)"],
 }
 CLASSES = {
     ("runs", "Run"): ["__init__(self, room)", "bell(self, things)", "bells(self)", "room(self)"],
