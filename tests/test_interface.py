@@ -24,6 +24,9 @@ FUNCTIONS = {
     ],
     "shifts": ["look_shifts(room, late, shifts)", "waits(shifts)", "trays_moved(room, shifts)"],
     "moving": ["moved(room, late, shifts, rows)"],
+    "lookers": ["shifts_hold(room, late, time, shifts)"],
+    "bars": ["bar_holds(room, late, time, bar)"],
+    "least": ["shifts_or_bar(room, late, time)", "least_time(room, late)"],
 }
 CLASSES = {
     ("runs", "Run"): ["__init__(self, room)", "bell(self, things)", "bells(self)", "room(self)"],
