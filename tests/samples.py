@@ -148,3 +148,47 @@ def drawn_shifts(room, late, seed):
         if all(len(things) + changed[taker] - changed[giver] >= 0 for giver, taker, things in room[1]):
             shifts = changed
     return tuple(shifts)
+
+
+def knit_rooms(many, seed, most=12):
+    """So many rooms of at most so many hands and twenty belts: few trays forth, some back, and many moments."""
+    draw = random.Random(seed)
+    rooms = []
+    while len(rooms) < many:
+        room = knit_room(draw, draw.randrange(2, most + 1))
+        try:
+            look_room(room)
+        except NoRoom:
+            continue
+        if len(room[1]) <= 20:
+            rooms.append(room)
+    return rooms
+
+
+def knit_room(draw, many):
+    hands = []
+    for number in range(many):
+        word = draw.choice(["same", "same", "sum", "gap", "most", "pick", "in", "out"] if number else ["in", "in", "same"])
+        hands.append(((word,), 0 if word in ("in", "out") else draw.randrange(0, 31)))
+    givers = [number for number, (rule, moments) in enumerate(hands) if rule != ("out",)]
+    belts = []
+    for taker, (rule, moments) in enumerate(hands):
+        for number in range(needs(rule) if givers else 0):
+            near = [giver for giver in givers if taker - 3 <= giver < taker]
+            giver = draw.choice(near if near and draw.randrange(4) else givers)
+            trays = draw.choice([0, 0, 0, 0, 0, 1, 2] if giver < taker else [1, 1, 2, 3, 6])
+            belts.append((giver, taker, tuple(drawn_things(draw, trays))))
+    draw.shuffle(belts)
+    return (tuple(hands), tuple(belts))
+
+
+def are_plain_ways(told):
+    """Whether a tuple is one of pairs of an int and a tuple of ints, with no truths among them."""
+    if type(told) is not tuple:
+        return False
+    for pair in told:
+        if type(pair) is not tuple or len(pair) != 2 or type(pair[0]) is not int or type(pair[1]) is not tuple:
+            return False
+        if any(type(number) is not int for number in pair[1]):
+            return False
+    return True

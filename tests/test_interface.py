@@ -27,6 +27,11 @@ FUNCTIONS = {
     "lookers": ["shifts_hold(room, late, time, shifts)"],
     "bars": ["bar_holds(room, late, time, bar)"],
     "least": ["shifts_or_bar(room, late, time)", "least_time(room, late)"],
+    "soonest": ["soonest(room, late, time)", "walk_holds(room, late, time, many, walk)"],
+    "prices": ["prices_hold(room, late, time, count, prices)"],
+    "fewest": ["fewest_trays(room, late, time)"],
+    "slowed": ["slowed(room, k)", "woven(some)"],
+    "full": ["full_shifts(room, late)", "ring_holds(room, late, ring)", "least_slowing(room)"],
 }
 CLASSES = {
     ("runs", "Run"): ["__init__(self, room)", "bell(self, things)", "bells(self)", "room(self)"],
