@@ -1,6 +1,6 @@
 """Places for hands, all doors being one place, the ground: by a lateness they lie fast beside each other.
 
-The ground's number is that of the hands, and a door's own number is no place that a step comes to or leaves.
+The ground's number is how many hands there are; a door's own number is a place to which no step comes.
 """
 
 from beltshift.least import least_ways, needed
@@ -24,17 +24,18 @@ def hand_places(room, late):
 def ground_steps(room, late, time):
     """Two lists: ways between hands at unlike places, and the step from place to place that each asks for.
 
-    Where some shifts reach the time, ways between hands at one place ask for nothing.
+    Where some shifts reach the time, ways between hands at one place ask for nothing. No way begins above its place,
+    since no belt leaves an out door.
     """
     places = hand_places(room, late)
     ways = []
     steps = []
     for trays, moments, way, end in least_ways(room):
-        begins, below = places[way[0]]
+        begins = places[way[0]][0]
         ends, above = places[end]
         if begins != ends:
             ways.append(way)
-            steps.append((begins, ends, needed(moments, time) - trays + below - above))
+            steps.append((begins, ends, needed(moments, time) - trays - above))
     return ways, steps
 
 

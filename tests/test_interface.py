@@ -1,4 +1,4 @@
-"""The names, arguments and files of the interface, of what has landed."""
+"""The names, arguments and files of the interface."""
 
 import ast
 import os
@@ -32,9 +32,17 @@ FUNCTIONS = {
     "fewest": ["fewest_trays(room, late, time)"],
     "slowed": ["slowed(room, k)", "woven(some)"],
     "full": ["full_shifts(room, late)", "ring_holds(room, late, ring)", "least_slowing(room)"],
+    "earliest": ["earliest(room, many)"],
+    "beats": [
+        "beat(room)", "holder(room)", "holder_holds(room, fraction, way)", "holding(room)",
+        "holding_holds(room, fraction, numbers)",
+    ],
+    "alike": ["kinds(room)", "joined_alike(room)"],
 }
 CLASSES = {
     ("runs", "Run"): ["__init__(self, room)", "bell(self, things)", "bells(self)", "room(self)"],
+    ("floors", "Floor"): ["__init__(self, room)", "give(self, hand, thing)", "ready(self)", "work(self, hand)", "made(self, hand)"],
+    ("desk", "Desk"): ["__init__(self)", "say(self, row)"],
     ("errors", "NoText"): ["__init__(self, row)"],
     ("errors", "NoRoom"): ["__init__(self, word, at)"],
     ("errors", "NoFormula"): ["__init__(self, word, name)"],
